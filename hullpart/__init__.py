@@ -1,0 +1,1 @@
+"""Hullpart: points of the plane, their hulls, and what parts them."""
