@@ -1,6 +1,6 @@
-"""Points, lines and weighings: what the other modules share."""
+"""Points, spots, lines and weighings: what the other modules share."""
 
-from hullpart.errors import NoPoint
+from hullpart.errors import NoPoint, NoSpot
 
 MOST_POINTS = 12
 FARTHEST = 1000
@@ -16,6 +16,11 @@ def check_points(points):
         raise NoPoint(f"more than {MOST_POINTS} points")
     for point in points:
         check_point(point)
+
+
+def check_spot(spot):
+    if len(spot) != 3 or spot[2] <= 0 or lowest(spot) != spot:
+        raise NoSpot(f"no spot: {spot}")
 
 
 # Above nought where the third point lies to the left of the way from tail to head.
@@ -50,6 +55,12 @@ def greatest_divisor(one, other):
         one = other
         other = rest
     return one
+
+
+# A spot stays where it is, and a line's worth stays above, at or below nought, if a common divisor is taken out.
+def lowest(three):
+    common = greatest_divisor(greatest_divisor(abs(three[0]), abs(three[1])), abs(three[2]))
+    return (three[0] // common, three[1] // common, three[2] // common)
 
 
 # The shares are tuples (number, share), no number twice, no share below nought, some share above it.

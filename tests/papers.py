@@ -4,6 +4,12 @@ from fractions import Fraction
 from itertools import combinations, combinations_with_replacement
 from math import gcd
 
+from hullpart.errors import HullError
+
+ROUND_TWELVE = [
+    (5, 0), (4, 3), (3, 4), (0, 5), (-3, 4), (-4, 3), (-5, 0), (-4, -3), (-3, -4), (0, -5), (3, -4), (4, -3),
+]
+
 
 def is_whole(value):
     return type(value) is int
@@ -72,10 +78,14 @@ def line_worth(line, point):
     return line[0] * point[0] + line[1] * point[1] + line[2]
 
 
+def check_three_whole(case, told):
+    case.assertIs(type(told), tuple)
+    case.assertEqual(len(told), 3)
+    case.assertTrue(all(is_whole(value) for value in told), told)
+
+
 def check_shutting_line(case, points, line, point):
-    case.assertIs(type(line), tuple)
-    case.assertEqual(len(line), 3)
-    case.assertTrue(all(is_whole(value) for value in line), line)
+    check_three_whole(case, line)
     for other in points:
         case.assertGreaterEqual(line_worth(line, other), 0, (points, line, point))
     case.assertLess(line_worth(line, point), 0, (points, line, point))
@@ -89,6 +99,108 @@ def check_placed(case, points, point, told, within):
         check_weighing(case, points, told[1], point)
     else:
         check_shutting_line(case, points, told[1], point)
+
+
+def check_spot_form(case, spot):
+    check_three_whole(case, spot)
+    case.assertGreater(spot[2], 0, spot)
+    case.assertEqual(gcd(*spot), 1, spot)
+
+
+def spot_place(spot):
+    return (Fraction(spot[0], spot[2]), Fraction(spot[1], spot[2]))
+
+
+def check_parted(case, ones, others, told, meet):
+    case.assertIs(type(told), tuple)
+    case.assertEqual(told[0], "spot" if meet else "line", (ones, others, told))
+    case.assertEqual(len(told), 4 if meet else 2)
+    if meet:
+        check_spot_form(case, told[1])
+        check_weighing(case, ones, told[2], spot_place(told[1]))
+        check_weighing(case, others, told[3], spot_place(told[1]))
+        case.assertIsNot(told[2], told[3])
+        return
+    check_three_whole(case, told[1])
+    for one in ones:
+        case.assertGreater(line_worth(told[1], one), 0, (ones, others, told))
+    for other in others:
+        case.assertLess(line_worth(told[1], other), 0, (ones, others, told))
+
+
+def segments_meet(a, b, c, d):
+    if any(on_segment(*ends, p) for ends, p in (((a, b), c), ((a, b), d), ((c, d), a), ((c, d), b))):
+        return True
+    return turn(a, b, c) * turn(a, b, d) < 0 and turn(c, d, a) * turn(c, d, b) < 0
+
+
+def hulls_meet(ones, others):
+    """Hulls that meet have crossing edges, or one of them holds a point of the other."""
+    if any(in_hull(ones, p) for p in others) or any(in_hull(others, p) for p in ones):
+        return True
+    return any(segments_meet(*p, *q) for p in combinations(ones, 2) for q in combinations(others, 2))
+
+
+def check_four_parted(case, points, told):
+    case.assertIs(type(told), tuple)
+    case.assertEqual(len(told), 3)
+    for numbers in told[:2]:
+        case.assertIs(type(numbers), list)
+        case.assertTrue(all(is_whole(number) for number in numbers), told)
+        case.assertNotEqual(numbers, [])
+        case.assertEqual(numbers, sorted(numbers), (points, told))
+    case.assertEqual(sorted(told[0] + told[1]), [0, 1, 2, 3], (points, told))
+    case.assertIsNot(told[0], told[1])
+    check_spot_form(case, told[2])
+    for numbers in told[:2]:
+        hull = [points[number] for number in numbers]
+        case.assertTrue(in_hull(hull, spot_place(told[2])), (points, told))
+
+
+def spot_depth(points, spot):
+    """The points that a half-plane with the spot leaves out are some whose hull doesn't have the spot: the most of them
+    are sought, choice by choice, where a hull has the spot if it has it by one, two or three of its points."""
+    place = spot_place(spot)
+    holding = []
+    for size in (1, 2, 3):
+        for chosen in combinations(range(len(points)), size):
+            if in_hull([points[number] for number in chosen], place):
+                holding.append(sum(1 << number for number in chosen))
+    least = len(points)
+    for left_out in range(1 << len(points)):
+        within = len(points) - bin(left_out).count("1")
+        if within < least and not any(left_out & some == some for some in holding):
+            least = within
+    return least
+
+
+def spot_worth(line, spot):
+    place = spot_place(spot)
+    return line[0] * place[0] + line[1] * place[1] + line[2]
+
+
+def check_depth(case, points, spot, told, expected):
+    case.assertIs(type(told), tuple)
+    case.assertEqual(len(told), 2)
+    case.assertTrue(is_whole(told[0]), told)
+    case.assertEqual(told[0], expected, (points, spot, told))
+    check_three_whole(case, told[1])
+    case.assertNotEqual(told[1][:2], (0, 0))
+    case.assertGreaterEqual(spot_worth(told[1], spot), 0, (points, spot, told))
+    count = sum(1 for point in points if line_worth(told[1], point) >= 0)
+    case.assertEqual(count, told[0], (points, spot, told))
+
+
+def check_middle(case, points, told):
+    check_spot_form(case, told)
+    case.assertGreaterEqual(3 * spot_depth(points, told), len(points), (points, told))
+
+
+def check_refused(case, refusal, ask, *handed):
+    """It is of the class itself, not of one above or beside it."""
+    with case.assertRaises(HullError, msg=handed) as caught:
+        ask(*handed)
+    case.assertIs(type(caught.exception), refusal, handed)
 
 
 def grid(least, most):
@@ -117,3 +229,9 @@ class Steps:
 
     def points(self, length, far):
         return [self.point(far) for step in range(length)]
+
+    def spot(self, far, most_below):
+        below = self.number(1, most_below)
+        x, y = self.number(-far * below, far * below), self.number(-far * below, far * below)
+        common = gcd(x, y, below)
+        return (x // common, y // common, below // common)

@@ -1,9 +1,7 @@
 import unittest
 
 from hullpart.hulls import corners
-from papers import Steps, check_corners, grid_lists
-
-ROUND_TWELVE = [(5, 0), (4, 3), (3, 4), (0, 5), (-3, 4), (-4, 3), (-5, 0), (-4, -3), (-3, -4), (0, -5), (3, -4), (4, -3)]
+from papers import ROUND_TWELVE, Steps, check_corners, grid_lists
 
 
 class CornersTest(unittest.TestCase):

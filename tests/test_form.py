@@ -33,6 +33,17 @@ type typing typing_extensions enum Enum IntEnum StrEnum Flag IntFlag Generic Pro
 NamedTuple TypedDict TYPE_CHECKING abstractmethod
 """.split()
 
+NOT_AS_NAMES = """
+attrgetter breakpoint builtins compile copyright credits delattr dir eval exec exit gc getattr globals hasattr help id
+importlib license locals methodcaller os quit setattr super type vars sys __name__ register mro elements open input
+version_info with_traceback add_note
+""".split()
+
+KEYWORDS = {"sorted": ["key", "reverse"], "min": ["key", "default"], "max": ["key", "default"], "sum": ["start"],
+            "enumerate": ["start"], "zip": ["strict"]}
+WALKED = ["zip", "enumerate", "reversed", "range", "items", "keys", "values"]
+WALKERS = ["list", "tuple", "dict", "sorted", "sum", "any", "all", "enumerate", "zip", "min", "max"]
+
 
 def package_files():
     return sorted(path for path in PACKAGE.rglob("*") if "__pycache__" not in path.parts)
@@ -44,6 +55,26 @@ def trees():
 
 def nodes(*kinds):
     return [(name, node) for name, tree in trees() for node in ast.walk(tree) if isinstance(node, kinds)]
+
+
+def parented(kind):
+    """Each node of the kind with the one it stands in."""
+    for name, parent in nodes(ast.AST):
+        for child in ast.iter_child_nodes(parent):
+            if isinstance(child, kind):
+                yield name, child, parent
+
+
+def called(node):
+    if not isinstance(node, ast.Call):
+        return None
+    return node.func.id if isinstance(node.func, ast.Name) else node.func.attr
+
+
+def is_walked_by(node, parent):
+    if isinstance(parent, (ast.For, ast.comprehension)):
+        return parent.iter is node
+    return called(parent) in WALKERS and node in parent.args
 
 
 def bound_names(node):
@@ -118,6 +149,70 @@ class FormTest(unittest.TestCase):
             self.assertEqual(node.decorator_list, [], (name, node.name))
             self.assertIsNone(node.args.vararg or node.args.kwarg, (name, node.name))
             self.assertEqual(node.args.kwonlyargs, [], (name, node.name))
+
+    def test_no_local_is_called_like_an_import_or_a_class(self):
+        for name, tree in trees():
+            taken = [alias.asname or alias.name for node in ast.walk(tree) if isinstance(node, ast.ImportFrom)
+                     for alias in node.names]
+            taken += [node.name for node in tree.body if isinstance(node, ast.ClassDef)]
+            for node in ast.walk(tree):
+                if isinstance(node, (ast.Name, ast.arg)):
+                    self.assertEqual([bound for bound in bound_names(node) if bound in taken], [], (name, node.lineno))
+
+    def test_each_name_of_a_file_is_bound_once(self):
+        for name, tree in trees():
+            bound = [alias.name for node in tree.body if isinstance(node, ast.ImportFrom) for alias in node.names]
+            bound += [node.name for node in tree.body if isinstance(node, (ast.FunctionDef, ast.ClassDef))]
+            bound += [node.targets[0].id for node in tree.body if isinstance(node, ast.Assign)]
+            self.assertEqual(len(bound), len(set(bound)), name)
+
+    def test_names_that_are_not_used(self):
+        for name, node in nodes(ast.Name):
+            self.assertNotIn(node.id, NOT_AS_NAMES, (name, node.lineno))
+
+    def test_one_target_in_an_assignment(self):
+        for name, node in nodes(ast.Assign):
+            self.assertEqual(len(node.targets), 1, (name, node.lineno))
+            self.assertNotIsInstance(node.targets[0], ast.Tuple, (name, node.lineno))
+
+    def test_comprehensions_and_texts_are_plain(self):
+        for name, node in nodes(ast.ListComp):
+            self.assertEqual(len(node.generators), 1, (name, node.lineno))
+            self.assertLessEqual(len(node.generators[0].ifs), 1, (name, node.lineno))
+        for name, node in nodes(ast.FormattedValue):
+            self.assertIsInstance(node.value, ast.Name, (name, node.lineno))
+            self.assertIsNone(node.format_spec, (name, node.lineno))
+        for name, node in nodes(ast.Constant):
+            self.assertNotIn("%", str(node.value), (name, node.lineno))
+
+    def test_is_stands_beside_none_true_and_false(self):
+        for name, node in nodes(ast.Compare):
+            if any(isinstance(sign, (ast.Is, ast.IsNot)) for sign in node.ops):
+                self.assertIsInstance(node.comparators[0], ast.Constant, (name, node.lineno))
+
+    def test_keywords(self):
+        own = [node.name for name, node in nodes(ast.FunctionDef)]
+        for name, node in nodes(ast.Call):
+            if called(node) not in own:
+                for keyword in node.keywords:
+                    self.assertIn(keyword.arg, KEYWORDS.get(called(node), []), (name, node.lineno))
+
+    def test_walks_are_not_kept(self):
+        for name, node, parent in parented(ast.Call):
+            if called(node) in WALKED:
+                self.assertTrue(is_walked_by(node, parent), (name, node.lineno))
+
+    def test_sets_are_not_kept(self):
+        for name, node, parent in parented(ast.Call):
+            if called(node) in ("set", "frozenset"):
+                asked = isinstance(parent, ast.Compare) or called(parent) in ("sorted", "len")
+                self.assertTrue(asked, (name, node.lineno))
+
+    def test_only_own_refusals_are_taken(self):
+        own = [node.name for name, node in nodes(ast.ClassDef)]
+        for name, node in nodes(ast.ExceptHandler):
+            self.assertIsInstance(node.type, ast.Name, (name, node.lineno))
+            self.assertIn(node.type.id, own, (name, node.lineno))
 
 
 if __name__ == "__main__":
